@@ -1,0 +1,1 @@
+"""Chainpapers: certificate paths by published rules, with papers."""
