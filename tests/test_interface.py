@@ -3,12 +3,21 @@
 import inspect
 
 import chainpapers.certificates
+import chainpapers.constraints
+import chainpapers.depths
 import chainpapers.files
 import chainpapers.names
-import chainpapers.seals
+import chainpapers.orderrows
+import chainpapers.regions
+import chainpapers.rights
+import chainpapers.rowchanges
 import chainpapers.sealing
+import chainpapers.seals
 import chainpapers.stores
+import chainpapers.subtrees
+import chainpapers.thingrows
 import chainpapers.valuerows
+import chainpapers.witnesses
 from tests.support import Case
 
 INTERFACE = {
@@ -23,6 +32,22 @@ INTERFACE = {
                             "goes_on(row)"],
     chainpapers.files: ["file_row(values)", "read_file(row)", "places_of(row)", "values_ahead(row)",
                         "sealed_file(key, values)", "open_file(key, row)"],
+    chainpapers.thingrows: ["anchor_row(anchor)", "store_row(store)", "question_row(store, question)",
+                            "read_certificate(row)", "read_list(row)", "read_anchor(row)", "read_store(row)",
+                            "read_question(store, row)"],
+    chainpapers.rowchanges: ["change_of(one, other)", "changed_row(row, change)", "change_back(row, change)",
+                             "changes_of(one, other)", "changed_value(value, changes)"],
+    chainpapers.orderrows: ["order_row(value)", "read_order(row)", "order_goes_on(row)"],
+    chainpapers.subtrees: ["is_title(value)", "holds(subtree, title)", "is_within(one, other)"],
+    chainpapers.regions: ["is_region(value)", "whole_region()", "region_of(subtrees)", "is_in(region, title)",
+                          "meet_of(one, other)", "join_of(one, other)", "less_of(one, other)", "other_of(region)"],
+    chainpapers.witnesses: ["title_in(region)", "apart_paper(one, other)", "cover_paper(one, other)"],
+    chainpapers.constraints: ["let_by(permitted, excluded)", "lets(permitted, excluded, title)",
+                              "narrowed(region, permitted, excluded)", "gathered(pairs)", "bar_paper(pairs, title)",
+                              "is_bar_paper(pairs, title, value)"],
+    chainpapers.rights: ["uses_of(certificate)", "purposes_of(certificate)", "may_seal(certificate)",
+                         "chain_purposes(chain)", "purposes_met(one, other)"],
+    chainpapers.depths: ["depth_of(certificate)", "counted_behind(chain, place)", "left_row(depth, chain)"],
 }
 
 

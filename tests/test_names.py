@@ -22,7 +22,8 @@ class Names(Case):
                ("letter", "", ("a",)), ("letter", "abcdefghijklm", ("a",)), ("letter", "me", ()), ("letter", ("a",)),
                ("letter", "me", FOUR + ("e",)), ("letter", "@me", ("x",)), ("letter", "me", ("x",), 1),
                ("number", -1), ("number", 65536), ("number", 1, 2), ("number", ()), ("number",),
-               ("name", ("a",)), ("other", ("a",)), ("", ("a",)), ("house", ("a",), ())]
+               ("name", ("a",)), ("other", ("a",)), ("", ("a",)), ("house", ("a",), ()), ("letter",), ("other",),
+               ("house", ("a",), 0, 0), ("letter", "me", ("a",), 0), ("number", 1, 0, 0)]
         self.takes_just(is_other_name, good, bad)
         self.takes_no_spoiled(is_other_name, good)
 
@@ -34,6 +35,7 @@ class Names(Case):
         bad += [("letter", "abcdefghijklm", ()), ("letter", "A", ()), ("letter", "", FOUR + ("e",)), ("letter", ("a",)),
                 ("letter", "me", ("",)), ("letter", None, ()), ("letter", "", (), ()), ("number", 9, 3),
                 ("number", -1, 3), ("number", 0, 65536), ("number", 65536, 65536), ("number", 7), ("number", 1, 2, 3),
-                ("house", "", ()), ("name", 1, 2), ("house",), ("other", ())]
+                ("house", "", ()), ("name", 1, 2), ("house",), ("other", ()), ("letter",), ("number",), ("other",),
+               ("house", (), 0, 0), ("letter", "", (), 0), ("number", 1, 2, 0)]
         self.takes_just(is_subtree, good, bad)
         self.takes_no_spoiled(is_subtree, good)

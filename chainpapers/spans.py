@@ -1,0 +1,63 @@
+"""Spans of numbers: ascending pairs (low, high) that do not touch."""
+
+from chainpapers.basics import is_tuple
+from chainpapers.names import is_named_number
+
+
+def is_span(value):
+    """Return whether any value is a pair (low, high) of numbers."""
+    if not is_tuple(value, 2, 2) or not is_named_number(value[0]) or not is_named_number(value[1]):
+        return False
+    return value[0] <= value[1]
+
+
+def are_spans(value):
+    """Return whether any value is a tuple of spans, each low being greater by 2 or more than the high ahead."""
+    if not isinstance(value, tuple):
+        return False
+    ahead = -2
+    for span in value:
+        if not is_span(span) or span[0] < ahead + 2:
+            return False
+        ahead = span[1]
+    return True
+
+
+def is_in_spans(spans, number):
+    """Return whether a number is in one of some spans."""
+    for low, high in spans:
+        if low <= number <= high:
+            return True
+    return False
+
+
+def turns_of(spans):
+    """Return a dict that tells, for each number at which some spans begin or are over, which of the two."""
+    turns = {}
+    for low, high in spans:
+        turns[low] = True
+        turns[high + 1] = False
+    return turns
+
+
+def combined_spans(one, other, wanted):
+    """Return the spans of the numbers whose being in one and in other spans is a pair that is wanted.
+
+    No pair that is wanted is (False, False), so that all spans have an end.
+    """
+    first = turns_of(one)
+    second = turns_of(other)
+    is_first = False
+    is_second = False
+    spans = []
+    begin = None
+    for number in sorted(set(list(first) + list(second))):
+        is_first = first.get(number, is_first)
+        is_second = second.get(number, is_second)
+        if (is_first, is_second) not in wanted:
+            if begin is not None:
+                spans.append((begin, number - 1))
+            begin = None
+        elif begin is None:
+            begin = number
+    return tuple(spans)
