@@ -64,7 +64,7 @@ class Form(Case):
                 ((("x",), True), (("x", "y"), False), (("x", "y", "@me"), True)), ((FOUR, True), (FOUR + ("@me",), False)),
                 (((), True), (("x", "@me"), False))]
         bad = [((("@me",), True),), ((("x", "@me"), False),), ((("x", "@"), True),), ((("x", "@abcdefghijklm"), True),),
-               ((("x", "@Me"), True),), ((("x", "@@me"), True),), ((("x", "me@"), True),), ((("x", "@me", "y"), True),),
+               ((("x", "#me"), True),), ((FOUR + ("me",), True),), ((("x", "@Me"), True),), ((("x", "@@me"), True),), ((("x", "me@"), True),), ((("x", "@me", "y"), True),),
                ((("x", "@me", "@me"), True),), ((FOUR + ("e",), True),), ((FOUR + ("e", "@me"), True),),
                ((("x",), True), (("x", "@me"), True)), ((("x", "y"), True), (("x", "@me"), True)),
                ((("x", "@me"), True), (("x", "@me"), True)), (((), True), (("@me",), False)), (((), False),)]
