@@ -97,3 +97,16 @@ def are_some_of(value, words):
         if item not in words:
             return False
     return is_ascending(value)
+
+
+def is_alike(value, plain):
+    """Return whether any value is just this one, which is made of integers, strings and tuples."""
+    if not isinstance(plain, tuple):
+        # True is equal to 1, but unlike it.
+        return value == plain and not isinstance(value, bool)
+    if not is_tuple(value, len(plain), len(plain)):
+        return False
+    for at in range(len(plain)):
+        if not is_alike(value[at], plain[at]):
+            return False
+    return True

@@ -3,7 +3,8 @@
 from chainpapers.basics import is_integer, is_tuple
 from chainpapers.errors import InvalidConstraints
 from chainpapers.names import are_subtrees
-from chainpapers.regions import IN_BOTH, IN_FIRST, KINDS, WHOLE, check_region, combined, joined_subtrees
+from chainpapers.regions import KINDS, WHOLE, check_region, combined, joined_subtrees
+from chainpapers.spans import IN_BOTH, IN_FIRST
 from chainpapers.subtrees import check_subtrees, check_title, holds_title
 
 MOST_PAIRS = 8

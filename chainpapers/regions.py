@@ -3,17 +3,12 @@
 from chainpapers.basics import is_tuple
 from chainpapers.errors import InvalidRegion
 from chainpapers.marks import BOX_SIGN, are_marks, combined_marks, told_by, told_of
-from chainpapers.spans import are_spans, combined_spans, is_in_spans
+from chainpapers.spans import IN_ANY, IN_BOTH, IN_FIRST, are_spans, combined_spans, is_in_spans
 from chainpapers.subtrees import check_subtrees, check_title, holds_none
 
 KINDS = ("house", "letter", "name", "number")
 WHOLE = ((((), True),), (((), True),), (((), True),), ((0, 65535),))
 NOTHING = ((), (), (), ())
-
-# Which pairs of being in one and being in the other one make what is returned.
-IN_BOTH = ((True, True),)
-IN_ANY = ((True, True), (True, False), (False, True))
-IN_FIRST = ((True, False),)
 
 
 def is_region(value):

@@ -2,7 +2,7 @@
 
 from chainpapers.basics import are_all, are_some_of, is_tuple
 from chainpapers.certificates import check_certificate, is_certificate, is_head, part_in
-from chainpapers.errors import InvalidChain, InvalidPurposes
+from chainpapers.errors import InvalidChain, InvalidPurposes, InvalidUses
 from chainpapers.wordlists import PURPOSES, USES
 
 MOST_CERTIFICATES = 8
@@ -23,6 +23,12 @@ def check_purposes(purposes):
     """Raise InvalidPurposes for what is no ascending tuple of some of the four purposes."""
     if not are_some_of(purposes, PURPOSES):
         raise InvalidPurposes("these are no purposes")
+
+
+def check_uses(uses):
+    """Raise InvalidUses for what is no ascending tuple of some of the four uses."""
+    if not are_some_of(uses, USES):
+        raise InvalidUses("these are no uses")
 
 
 def uses_in(certificate):

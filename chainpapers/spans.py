@@ -1,7 +1,12 @@
 """Spans of numbers: ascending pairs (low, high) that do not touch."""
 
-from chainpapers.basics import is_tuple
+from chainpapers.basics import are_all, is_tuple
 from chainpapers.names import is_named_number
+
+# Which pairs of being in one and being in the other one make what is returned, of spans and of marks.
+IN_BOTH = ((True, True),)
+IN_ANY = ((True, True), (True, False), (False, True))
+IN_FIRST = ((True, False),)
 
 
 def is_span(value):
@@ -11,16 +16,17 @@ def is_span(value):
     return value[0] <= value[1]
 
 
-def are_spans(value):
-    """Return whether any value is a tuple of spans, each low being greater by 2 or more than the high ahead."""
-    if not isinstance(value, tuple):
-        return False
-    ahead = -2
-    for span in value:
-        if not is_span(span) or span[0] < ahead + 2:
+def are_apart(spans):
+    """Return whether spans ascend, each low being greater by 2 or more than the high ahead."""
+    for at in range(1, len(spans)):
+        if spans[at][0] < spans[at - 1][1] + 2:
             return False
-        ahead = span[1]
     return True
+
+
+def are_spans(value):
+    """Return whether any value is a tuple of spans of numbers that do not touch."""
+    return isinstance(value, tuple) and are_all(value, is_span) and are_apart(value)
 
 
 def is_in_spans(spans, number):

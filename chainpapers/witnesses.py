@@ -1,7 +1,8 @@
 """Titles that show that a region is not empty, or that two regions are unlike."""
 
 from chainpapers.marks import BOX_SIGN
-from chainpapers.regions import IN_FIRST, check_region, combined
+from chainpapers.regions import check_region, combined
+from chainpapers.spans import IN_FIRST
 
 
 def fresh_word(used):

@@ -2,12 +2,20 @@
 
 import inspect
 
+import chainpapers.bars
 import chainpapers.certificates
 import chainpapers.constraints
 import chainpapers.depths
 import chainpapers.files
+import chainpapers.limits
 import chainpapers.names
 import chainpapers.orderrows
+import chainpapers.policyleads
+import chainpapers.policyorder
+import chainpapers.policypapers
+import chainpapers.policyparts
+import chainpapers.policyrows
+import chainpapers.policysteps
 import chainpapers.regions
 import chainpapers.rights
 import chainpapers.rowchanges
@@ -16,6 +24,7 @@ import chainpapers.seals
 import chainpapers.stores
 import chainpapers.subtrees
 import chainpapers.thingrows
+import chainpapers.times
 import chainpapers.valuerows
 import chainpapers.witnesses
 from tests.support import Case
@@ -48,6 +57,25 @@ INTERFACE = {
     chainpapers.rights: ["uses_of(certificate)", "purposes_of(certificate)", "may_seal(certificate)",
                          "chain_purposes(chain)", "purposes_met(one, other)"],
     chainpapers.depths: ["depth_of(certificate)", "counted_behind(chain, place)", "left_row(depth, chain)"],
+    chainpapers.times: ["is_times(value)", "times_joined(one, other)", "times_met(one, other)", "times_less(one, other)",
+                        "has_time(times, time)", "chain_times(chain)", "times_of_chains(chains)"],
+    chainpapers.limits: ["is_limits(value)", "limits_started(depth)", "limits_behind(limits, certificate, is_last)",
+                         "limits_of(depth, chain)", "limits_let(limits, time, purposes)", "are_laxer(one, other)",
+                         "limits_parting(one, other)"],
+    chainpapers.bars: ["is_let(depth, chain, time, purposes, uses)", "all_bars(depth, chain, time, purposes, uses)",
+                       "first_bar(depth, chain, time, purposes, uses)",
+                       "takes_bar(depth, chain, time, purposes, uses, value)"],
+    chainpapers.policyparts: ["limits_of(certificate)", "numbers_along(numbers, path)"],
+    chainpapers.policyrows: ["words_from(numbers, certificate, is_last, expected)",
+                             "expected_from(numbers, certificate, word)", "is_policy_row(numbers, path, value)",
+                             "policy_rows(numbers, path)", "origin_of(row)"],
+    chainpapers.policysteps: ["policy_start(numbers)", "policy_entered(state, certificate, is_last)",
+                              "policy_passed(state, certificate)", "policy_ended(state, certificate, wanted)",
+                              "policies_let(numbers, path, wanted)"],
+    chainpapers.policypapers: ["held_row(numbers, path, policy)", "shows_held(numbers, path, policy, value)",
+                               "lost_sets(numbers, path, policy)", "shows_lost(numbers, path, policy, value)"],
+    chainpapers.policyorder: ["policy_laxer(state, other)"],
+    chainpapers.policyleads: ["led_on(state, path)", "policy_leads(numbers, path)"],
 }
 
 
