@@ -63,6 +63,11 @@ def check_list(own):
         raise InvalidList("this is no list")
 
 
+def are_lists(value):
+    """Return whether any value is an ascending tuple of 0 to 12 lists."""
+    return are_ascending(value, 0, 12, is_list)
+
+
 def is_depth(value):
     """Return whether any value is a depth: none, which is -1, or one from 0 to 8."""
     return is_integer(value, -1, 8)
@@ -88,7 +93,7 @@ def is_store(value):
     """Return whether any value is a store."""
     if not is_tuple(value, 3, 3) or not are_ascending(value[0], 0, 30, is_certificate):
         return False
-    return are_ascending(value[1], 0, 12, is_list) and are_ascending(value[2], 0, 6, is_anchor)
+    return are_lists(value[1]) and are_ascending(value[2], 0, 6, is_anchor)
 
 
 def check_store(store):
@@ -97,9 +102,14 @@ def check_store(store):
         raise InvalidStore("this is no store")
 
 
+def is_grace(value):
+    """Return whether any value is a grace."""
+    return is_integer(value, 0, MOST_GRACE)
+
+
 def are_settings(value):
     """Return whether any value are the settings of a question."""
-    if not is_tuple(value, 5, 5) or value[0] not in STATES or not is_integer(value[1], 0, MOST_GRACE):
+    if not is_tuple(value, 5, 5) or value[0] not in STATES or not is_grace(value[1]):
         return False
     # Each of the three numbers is none, or from 0 to 8, as a depth is.
     return are_all(value[2:], is_depth)
@@ -108,6 +118,11 @@ def are_settings(value):
 def is_sealer(value):
     """Return whether any value is a pair (name, key)."""
     return is_tuple(value, 2, 2) and is_name(value[0]) and is_key(value[1])
+
+
+def are_sealers(value):
+    """Return whether any value are sealers."""
+    return are_ascending(value, 0, 12, is_sealer)
 
 
 def are_wanted(value):
@@ -126,7 +141,7 @@ def is_question_of(store, value):
         return False
     if not are_wanted(wanted) or not are_settings(settings) or not is_integer(most, 1, 8):
         return False
-    return are_ascending(sealers, 0, 12, is_sealer)
+    return are_sealers(sealers)
 
 
 def is_question(store, value):

@@ -5,8 +5,10 @@ import inspect
 import chainpapers.bars
 import chainpapers.certificates
 import chainpapers.constraints
+import chainpapers.deltas
 import chainpapers.depths
 import chainpapers.files
+import chainpapers.histories
 import chainpapers.limits
 import chainpapers.names
 import chainpapers.orderrows
@@ -16,16 +18,23 @@ import chainpapers.policypapers
 import chainpapers.policyparts
 import chainpapers.policyrows
 import chainpapers.policysteps
+import chainpapers.reaching
 import chainpapers.regions
 import chainpapers.rights
 import chainpapers.rowchanges
 import chainpapers.sealing
 import chainpapers.seals
+import chainpapers.statechanges
+import chainpapers.steps
 import chainpapers.stores
 import chainpapers.subtrees
 import chainpapers.thingrows
 import chainpapers.times
 import chainpapers.valuerows
+import chainpapers.views
+import chainpapers.walkstates
+import chainpapers.withdrawal
+import chainpapers.withdrawalpapers
 import chainpapers.witnesses
 from tests.support import Case
 
@@ -76,6 +85,21 @@ INTERFACE = {
                                "lost_sets(numbers, path, policy)", "shows_lost(numbers, path, policy, value)"],
     chainpapers.policyorder: ["policy_laxer(state, other)"],
     chainpapers.policyleads: ["led_on(state, path)", "policy_leads(numbers, path)"],
+    chainpapers.reaching: ["list_names(certificate)", "family_of(own)",
+                           "reaches(own, sealers, certificate, time, grace)"],
+    chainpapers.deltas: ["can_be_laid(whole, delta)", "laid_entries(whole, delta)"],
+    chainpapers.histories: ["is_history(value)", "entries_after(history, number)",
+                            "history_list(history, frame, base, number)"],
+    chainpapers.views: ["views_of(lists, sealers, certificate, time, grace)",
+                        "newest_views(lists, sealers, certificate, time, grace)"],
+    chainpapers.withdrawal: ["state_of(lists, sealers, certificate, time, grace)",
+                             "state_word(lists, sealers, certificate, time, grace)"],
+    chainpapers.withdrawalpapers: ["takes_state(lists, sealers, certificate, time, grace, value)"],
+    chainpapers.statechanges: ["state_changes(lists, sealers, certificate, grace, low, high)"],
+    chainpapers.walkstates: ["is_walk_state(value)", "begun(store, question, anchor)", "titles_of(certificate)",
+                             "walk_sealers(store, question, state)"],
+    chainpapers.steps: ["entered(store, question, state, index)", "passed(store, question, state, index)",
+                        "ended(store, question, state, index)"],
 }
 
 
