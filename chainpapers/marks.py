@@ -69,3 +69,14 @@ def combined_marks(one, other, wanted):
             told[path] = is_in
             marks.append((path, is_in))
     return tuple(marks)
+
+
+def has_all_marked(one, other):
+    """Return whether one marks tell True of all paths of which other marks do."""
+    first = told_by(one)
+    second = told_by(other)
+    # Between the paths of marks nothing changes, so that these are enough.
+    for path, _ in one + other:
+        if told_of(second, path) and not told_of(first, path):
+            return False
+    return True

@@ -2,8 +2,8 @@
 
 from chainpapers.basics import is_tuple
 from chainpapers.errors import InvalidRegion
-from chainpapers.marks import BOX_SIGN, are_marks, combined_marks, told_by, told_of
-from chainpapers.spans import IN_ANY, IN_BOTH, IN_FIRST, are_spans, combined_spans, is_in_spans
+from chainpapers.marks import BOX_SIGN, are_marks, combined_marks, has_all_marked, told_by, told_of
+from chainpapers.spans import IN_ANY, IN_BOTH, IN_FIRST, are_spans, combined_spans, has_all_spans, is_in_spans
 from chainpapers.subtrees import check_subtrees, check_title, holds_none
 
 KINDS = ("house", "letter", "name", "number")
@@ -29,6 +29,14 @@ def combined(one, other, wanted):
     """Return the region of the titles whose being in one and in other regions is a pair that is wanted, unchecked."""
     marks = [combined_marks(one[at], other[at], wanted) for at in range(3)]
     return tuple(marks) + (combined_spans(one[3], other[3], wanted),)
+
+
+def has_all_of(region, other):
+    """Return whether a region has all titles of another one, unchecked."""
+    for at in range(3):
+        if not has_all_marked(region[at], other[at]):
+            return False
+    return has_all_spans(region[3], other[3])
 
 
 def title_path(title):

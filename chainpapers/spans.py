@@ -67,3 +67,12 @@ def combined_spans(one, other, wanted):
         elif begin is None:
             begin = number
     return tuple(spans)
+
+
+def has_all_spans(one, other):
+    """Return whether all numbers of other spans are in one spans."""
+    for low, high in other:
+        # Spans do not touch, so that several never make up for one.
+        if True not in [first <= low and high <= last for first, last in one]:
+            return False
+    return True

@@ -4,8 +4,8 @@ from chainpapers.basics import are_span
 from chainpapers.certificates import check_certificate
 from chainpapers.errors import InvalidNumber
 from chainpapers.reaching import check_grace, check_lists, check_sealers
-from chainpapers.views import indices_for, newest_among
-from chainpapers.withdrawal import paper_of
+from chainpapers.views import indices_for
+from chainpapers.withdrawal import state_among
 
 
 def turning_times(lists, indices, grace):
@@ -34,7 +34,7 @@ def state_changes(lists, sealers, certificate, grace, low, high):
     indices = indices_for(lists, sealers, certificate)
     changes = []
     for time in times_between(turning_times(lists, indices, grace), low, high):
-        state = paper_of(lists, newest_among(lists, indices, time, grace), certificate, time)[0]
+        state = state_among(lists, indices, certificate, time, grace)
         if not changes or changes[-1][1] != state:
             changes.append((time, state))
     return tuple(changes)

@@ -1,31 +1,17 @@
 """Steps of walks: a state and the next certificate give a new state, or a reason."""
 
 from chainpapers.basics import is_integer
-from chainpapers.certificates import is_head, issues_itself, part_in
+from chainpapers.certificates import is_head
 from chainpapers.constraints import narrowed_region
 from chainpapers.depths import NOT_LET, left_behind
 from chainpapers.errors import InvalidNumber
 from chainpapers.policysteps import ended_policies, entered_state, passed_state
-from chainpapers.regions import is_title_in
-from chainpapers.rights import purposes_in, uses_in
+from chainpapers.rules import bar_of_state, can_certify, has_purposes, has_uses, has_wanted_names, is_lasting
+from chainpapers.rules import is_named, is_odd_must, subtrees_told
 from chainpapers.sealing import is_certificate_sealed
 from chainpapers.stores import check_question, check_store
-from chainpapers.walkstates import check_walk_state, other_names_in, sealers_asked, titles_in
+from chainpapers.walkstates import check_walk_state, sealers_asked
 from chainpapers.withdrawal import state_at
-
-
-def has_all(held, asked):
-    """Return whether all that is asked is among what is held."""
-    for word in asked:
-        if word not in held:
-            return False
-    return True
-
-
-def is_odd_must(certificate):
-    """Return whether a certificate has an odd part that is a must, unchecked."""
-    odd = part_in(certificate, "odd")
-    return odd is not None and odd[0]
 
 
 def withdrawal_bar(store, question, sealers, certificate):
@@ -33,19 +19,7 @@ def withdrawal_bar(store, question, sealers, certificate):
     states, grace = question[6][:2]
     if states == "no":
         return None
-    state = state_at(store[1], sealers, certificate, question[1], grace)
-    is_barred = state == "withdrawn" or (state == "unknown" and states == "must")
-    return state if is_barred else None
-
-
-def is_named(region, certificate, is_target):
-    """Return whether a certificate has no titles but those in a region, or is not asked for it, unchecked."""
-    if issues_itself(certificate) and not is_target:
-        return True
-    for title in titles_in(certificate):
-        if not is_title_in(region, title):
-            return False
-    return True
+    return bar_of_state(question, state_at(store[1], sealers, certificate, question[1], grace))
 
 
 def entering_bar(store, question, state, index):
@@ -57,7 +31,7 @@ def entering_bar(store, question, state, index):
         return "key"
     if not is_certificate_sealed(certificate):
         return "seal"
-    if not certificate[5] <= question[1] <= certificate[6]:
+    if not is_lasting(question, certificate):
         return "time"
     withdrawal = withdrawal_bar(store, question, sealers_asked(question, state), certificate)
     if withdrawal is not None:
@@ -66,7 +40,7 @@ def entering_bar(store, question, state, index):
         return "odd"
     if not is_named(state[3], certificate, index == question[0]):
         return "name"
-    return None if has_all(purposes_in(certificate), question[3]) else "purpose"
+    return None if has_purposes(question, certificate) else "purpose"
 
 
 def step_entering(store, question, state, index):
@@ -78,35 +52,38 @@ def step_entering(store, question, state, index):
     return ("barred", "policy") if policy is None else ("on", state[:4] + (policy,))
 
 
-def subtrees_in(certificate, word):
-    """Return the permitted or the excluded subtrees of a certificate, () without the part, unchecked."""
-    subtrees = part_in(certificate, word)
-    return () if subtrees is None else subtrees
-
-
 def step_passing(store, state, index):
     """Return ("on", the state behind passing a certificate) or ("barred", reason), unchecked."""
     certificate = store[0][index]
     if not is_head(certificate):
         return ("barred", "head")
-    if "certs" not in uses_in(certificate):
+    if not can_certify(certificate):
         return ("barred", "uses")
     left = left_behind(state[2], certificate)
     if left == NOT_LET:
         return ("barred", "depth")
-    region = narrowed_region(state[3], subtrees_in(certificate, "permitted"), subtrees_in(certificate, "excluded"))
+    permitted, excluded = subtrees_told(certificate)
+    region = narrowed_region(state[3], permitted, excluded)
     return ("on", (certificate[2], certificate[3], left, region, passed_state(state[4], certificate)))
 
 
 def step_ending(store, question, state, index):
     """Return ("let", policies let) or ("barred", reason), unchecked."""
     certificate = store[0][index]
-    if not has_all(uses_in(certificate), question[2]):
+    if not has_uses(question, certificate):
         return ("barred", "use")
-    if not has_all(other_names_in(certificate), question[4]):
+    if not has_wanted_names(question, certificate):
         return ("barred", "wanted")
     policies = ended_policies(state[4], certificate, question[5])
     return ("barred", "policies") if policies is None else ("let", policies)
+
+
+def step_through(store, question, state, index):
+    """Return what is told behind entering a certificate, and ending at it or passing it, unchecked."""
+    step = step_entering(store, question, state, index)
+    if step[0] == "barred":
+        return step
+    return step_ending(store, question, step[1], index) if index == question[0] else step_passing(store, step[1], index)
 
 
 def check_asked(store, question, state, index):

@@ -31,10 +31,14 @@ def paper_of(lists, newest, certificate, time):
     return ("good", tuple([views[0] for views in shown]))
 
 
+def state_among(lists, indices, certificate, time, grace):
+    """Return the state of a certificate at a time, by the lists with these indices, unchecked."""
+    return paper_of(lists, newest_among(lists, indices, time, grace), certificate, time)[0]
+
+
 def state_at(lists, sealers, certificate, time, grace):
     """Return the state of a certificate at a time, unchecked; the sealers may be more than 12."""
-    newest = newest_among(lists, indices_for(lists, sealers, certificate), time, grace)
-    return paper_of(lists, newest, certificate, time)[0]
+    return state_among(lists, indices_for(lists, sealers, certificate), certificate, time, grace)
 
 
 def state_of(lists, sealers, certificate, time, grace):

@@ -3,15 +3,20 @@
 import inspect
 
 import chainpapers.bars
+import chainpapers.builder
+import chainpapers.candidates
 import chainpapers.certificates
 import chainpapers.constraints
 import chainpapers.deltas
 import chainpapers.depths
 import chainpapers.files
+import chainpapers.hangingchains
 import chainpapers.histories
+import chainpapers.laxer
 import chainpapers.limits
 import chainpapers.names
 import chainpapers.orderrows
+import chainpapers.plainly
 import chainpapers.policyleads
 import chainpapers.policyorder
 import chainpapers.policypapers
@@ -26,12 +31,16 @@ import chainpapers.sealing
 import chainpapers.seals
 import chainpapers.statechanges
 import chainpapers.steps
+import chainpapers.storechanges
 import chainpapers.stores
 import chainpapers.subtrees
+import chainpapers.targets
 import chainpapers.thingrows
 import chainpapers.times
+import chainpapers.treepapers
 import chainpapers.valuerows
 import chainpapers.views
+import chainpapers.walks
 import chainpapers.walkstates
 import chainpapers.withdrawal
 import chainpapers.withdrawalpapers
@@ -100,6 +109,18 @@ INTERFACE = {
                              "walk_sealers(store, question, state)"],
     chainpapers.steps: ["entered(store, question, state, index)", "passed(store, question, state, index)",
                         "ended(store, question, state, index)"],
+    chainpapers.walks: ["walk(store, question, anchor, path)", "states_along(store, question, anchor, path)"],
+    chainpapers.plainly: ["plain_bars(store, question, anchor, path)", "reason_word(number)"],
+    chainpapers.laxer: ["is_laxer(state, other)"],
+    chainpapers.candidates: ["fits_behind(certificate, name, key)", "candidates(store, name, key)", "links(store)",
+                             "linked(store)"],
+    chainpapers.hangingchains: ["does_hang(store, question, value)", "walk_of(store, question, chain)"],
+    chainpapers.builder: ["built(store, question)", "built_whole(store, question)"],
+    chainpapers.treepapers: ["takes_tree(store, question, value)", "takes_built(store, question, value)"],
+    chainpapers.storechanges: ["with_certificate(store, certificate)", "without_certificate(store, index)",
+                               "moved_chain(store, other, chain)"],
+    chainpapers.targets: ["built_each(store, question, targets)", "reached(store, question)",
+                          "needed(store, question)"],
 }
 
 
