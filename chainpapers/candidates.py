@@ -33,6 +33,19 @@ def all_behind_certificates(store):
     return [all_behind(store, certificate[2], certificate[3]) for certificate in store[0]]
 
 
+def all_linked(store):
+    """Return the ascending tuple of the indices of all that fit behind an anchor, or behind one of these, unchecked."""
+    behind = all_behind_certificates(store)
+    met = {}
+    ahead = [index for found in all_behind_anchors(store) for index in found]
+    while ahead:
+        index = ahead.pop()
+        if index not in met:
+            met[index] = True
+            ahead.extend(behind[index])
+    return tuple(sorted(met))
+
+
 def fits_behind(certificate, name, key):
     """Return whether a certificate fits behind a name and a key."""
     check_certificate(certificate)
@@ -59,12 +72,4 @@ def links(store):
 def linked(store):
     """Return the ascending tuple of the indices of all that fit behind an anchor, or behind one of these."""
     check_store(store)
-    behind = all_behind_certificates(store)
-    reached = {}
-    ahead = [index for found in all_behind_anchors(store) for index in found]
-    while ahead:
-        index = ahead.pop()
-        if index not in reached:
-            reached[index] = True
-            ahead.extend(behind[index])
-    return tuple(sorted(reached))
+    return all_linked(store)

@@ -1,4 +1,30 @@
-"""All paths of a question, and all targets that paths reach, by one walk along all that fits."""
+"""All chains that hang together, all paths, and all targets that paths reach, each by going along all that fits."""
+
+from chainpapers.candidates import all_behind_anchors, all_behind_certificates
+
+
+def chains_behind(behind, question, indices):
+    """Return the list of the indices of all chains that begin with some indices and hang together to the target."""
+    if indices[-1] == question[0]:
+        return [indices]
+    found = []
+    if len(indices) < question[7]:
+        for index in behind[indices[-1]]:
+            if index not in indices:
+                found.extend(chains_behind(behind, question, indices + (index,)))
+    return found
+
+
+def all_hanging(store, question):
+    """Return the list of all chains that hang together, in order, unchecked."""
+    behind = all_behind_certificates(store)
+    ahead = all_behind_anchors(store)
+    found = []
+    for anchor in range(len(ahead)):
+        for first in ahead[anchor]:
+            for indices in chains_behind(behind, question, (first,)):
+                found.append((len(indices), (anchor, indices)))
+    return [chain for _, chain in sorted(found)]
 
 
 def paths_behind(walker, anchor, indices, spot):

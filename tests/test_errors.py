@@ -1,6 +1,6 @@
 """The errors, [98]."""
 
-from chainpapers import errors
+from chainpapers import errors, texterrors
 from tests.support import Case
 
 PLAIN_ERRORS = """InvalidWord InvalidName InvalidSubtree InvalidNumber InvalidRow InvalidCertificate InvalidPart
@@ -8,6 +8,8 @@ InvalidList InvalidAnchor InvalidStore InvalidQuestion InvalidValue InvalidChang
 InvalidConstraints InvalidChain InvalidUses InvalidPurposes InvalidTimes InvalidLimits InvalidNumbers InvalidPath
 InvalidState InvalidPolicies InvalidPolicy InvalidTruth InvalidSealers InvalidDelta InvalidHistory InvalidTargets
 InvalidTime""".split()
+
+TEXT_ERRORS = ["InvalidText", "InvalidSort", "InvalidSteps", "IsThere", "NotThere", "NothingToUndo", "NothingToRedo"]
 
 
 class Errors(Case):
@@ -28,3 +30,12 @@ class Errors(Case):
         self.assertEqual(errors.TooMany(20000).limit, 20000)
         self.assertEqual(errors.BadRow(0).at, 0)
         self.assertEqual((errors.TooMany(None).limit, errors.BadRow("x").at), (None, "x"))
+
+    def test_errors_of_texts(self):
+        for name in TEXT_ERRORS + ["BadText"]:
+            error = getattr(texterrors, name)
+            self.assertEqual((error.__bases__, error.__module__), ((errors.ChainError,), "chainpapers.texterrors"))
+        self.assertEqual(len({getattr(texterrors, name) for name in TEXT_ERRORS}), 7)
+        for name in TEXT_ERRORS:
+            self.assertIsInstance(getattr(texterrors, name)("words"), errors.ChainError)
+        self.assertEqual((texterrors.BadText(7).place, texterrors.BadText(None).place), (7, None))

@@ -2,6 +2,9 @@
 
 import inspect
 
+import chainpapers.answers
+import chainpapers.answertimes
+import chainpapers.askings
 import chainpapers.bars
 import chainpapers.builder
 import chainpapers.candidates
@@ -9,6 +12,9 @@ import chainpapers.certificates
 import chainpapers.constraints
 import chainpapers.deltas
 import chainpapers.depths
+import chainpapers.desk
+import chainpapers.diagnoses
+import chainpapers.differences
 import chainpapers.files
 import chainpapers.hangingchains
 import chainpapers.histories
@@ -16,6 +22,7 @@ import chainpapers.laxer
 import chainpapers.limits
 import chainpapers.names
 import chainpapers.orderrows
+import chainpapers.pathlists
 import chainpapers.plainly
 import chainpapers.policyleads
 import chainpapers.policyorder
@@ -35,6 +42,7 @@ import chainpapers.storechanges
 import chainpapers.stores
 import chainpapers.subtrees
 import chainpapers.targets
+import chainpapers.texts
 import chainpapers.thingrows
 import chainpapers.times
 import chainpapers.treepapers
@@ -121,7 +129,25 @@ INTERFACE = {
                                "moved_chain(store, other, chain)"],
     chainpapers.targets: ["built_each(store, question, targets)", "reached(store, question)",
                           "needed(store, question)"],
+    chainpapers.pathlists: ["paths_of(store, question)", "least_path(store, question)"],
+    chainpapers.texts: ["write_name(name)", "write_other(other)", "write_subtree(subtree)",
+                        "write_certificate(certificate)", "write_list(own)", "write_anchor(anchor)",
+                        "write_question(store, question)", "write_store(store)", "read_name(text)", "read_other(text)",
+                        "read_subtree(text)", "read_certificate(text)", "read_list(text)", "read_anchor(text)",
+                        "read_question(store, text)", "read_store(text)", "first_refused(sort, text)"],
+    chainpapers.differences: ["store_steps(store, other)", "applied(store, steps)"],
+    chainpapers.desk: ["desk_of(deeds)"],
+    chainpapers.answers: ["answered(store, question)", "takes(store, question, value)", "cut_words(store, question)"],
+    chainpapers.answertimes: ["change_times(store, question, low, high)", "answers_over(store, question, low, high)",
+                              "times_let(store, question, low, high)", "takes_over(store, question, low, high, value)"],
+    chainpapers.askings: ["purposes_let(store, question)", "uses_let(store, question)",
+                          "policies_held(store, question)", "least_most(store, question)"],
+    chainpapers.diagnoses: ["hanging_chains(store, question)", "flawed_chains(store, question)",
+                            "least_flawed(store, question)"],
 }
+DESK_METHODS = ["store(self)", "put(self, text)", "take_out(self, text)", "deeds(self)", "undo(self)", "redo(self)",
+                "withdraw(self, issuer, sealer, serial, when, reason, since, until)",
+                "give_back(self, issuer, sealer, serial, since, until)"]
 
 
 class Interface(Case):
@@ -131,3 +157,10 @@ class Interface(Case):
                 function = getattr(module, told.partition("(")[0])
                 self.assertEqual(function.__name__ + str(inspect.signature(function)), told)
                 self.assertEqual(function.__module__, module.__name__)
+
+    def test_desk(self):
+        self.assertEqual(chainpapers.desk.Desk.__module__, "chainpapers.desk")
+        self.assertEqual(str(inspect.signature(chainpapers.desk.Desk)), "()")
+        for told in DESK_METHODS:
+            method = vars(chainpapers.desk.Desk)[told.partition("(")[0]]
+            self.assertEqual(method.__name__ + str(inspect.signature(method)), told)

@@ -67,8 +67,9 @@ def defined_names(tree):
 
 def local_names(function):
     arguments = [argument.arg for argument in function.args.args]
-    return arguments + [node.id for node in ast.walk(function)
-                        if isinstance(node, ast.Name) and isinstance(node.ctx, ast.Store)]
+    caught = [node.name for node in ast.walk(function) if isinstance(node, ast.ExceptHandler) and node.name]
+    return arguments + caught + [node.id for node in ast.walk(function)
+                                 if isinstance(node, ast.Name) and isinstance(node.ctx, ast.Store)]
 
 
 class Texts(unittest.TestCase):
@@ -170,6 +171,21 @@ class Structure(unittest.TestCase):
             for sign, other in zip(node.ops, node.comparators):
                 if isinstance(sign, (ast.Is, ast.IsNot)):
                     self.assertIn(ast.unparse(other), ("None", "True", "False"), (name, node.lineno))
+
+
+    def test_handlers(self):
+        """Only errors of the package are caught, and what is caught is read off its own attributes alone."""
+        own = {node.name for name in ("errors.py", "texterrors.py") for node in TREES[name].body
+               if isinstance(node, ast.ClassDef)}
+        for name, node in nodes(ast.Try):
+            self.assertFalse(node.orelse or node.finalbody, name)
+            self.assertEqual(len(node.handlers), 1, name)
+        for name, node in nodes(ast.ExceptHandler):
+            caught = node.type.elts if isinstance(node.type, ast.Tuple) else [node.type]
+            self.assertLessEqual({error.id for error in caught}, own, name)
+            read = [part for part in ast.walk(node) if isinstance(part, ast.Name) and part.id == node.name]
+            held = [part.value for part in ast.walk(node) if isinstance(part, ast.Attribute) and part.attr != "args"]
+            self.assertTrue(all(part in held for part in read), name)
 
 
 class Names(unittest.TestCase):
