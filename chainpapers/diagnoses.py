@@ -30,8 +30,7 @@ def least_flawed(store, question):
     check_store(store)
     check_question(store, question)
     found = flaws_of(store, question)
-    fewest = min([len(bars) for _, bars in found], default=0)
-    for pair in found:
-        if len(pair[1]) == fewest:
-            return pair
-    return None
+    if not found:
+        return None
+    fewest = min([len(bars) for _, bars in found])
+    return [pair for pair in found if len(pair[1]) == fewest][0]

@@ -39,7 +39,8 @@ def check_span(since, until):
 def old_list(lists, issuer, sealer):
     """Return the list that is the newest one of this issuer and sealer, whole and of all, or None if there is none."""
     found = [own for own in lists if own[:2] == (issuer, sealer) and own[3] == NO_BASE and own[6] == OWN_SCOPE]
-    return max([(own[2], own) for own in found])[1] if found else None
+    # All have the same issuer and sealer, so that the greatest tuple is one with the greatest number.
+    return max(found) if found else None
 
 
 def old_entries(old):

@@ -94,7 +94,7 @@ class PlainRules:
         return False
 
     def places_too_deep(self, anchor, path):
-        """Return the list of the places, but the last, of certificates that are too deep behind a depth ahead."""
+        """Return the list of the places, but the last, that are too deep, as often as there is a depth ahead."""
         depths = [self.anchors[anchor][4]] + [depth_in(self.certificates[index]) for index in path]
         counted = [place for place in range(len(path) - 1) if not issues_itself(self.certificates[path[place]])]
         deep = []
@@ -102,7 +102,7 @@ class PlainRules:
             for at in range(place + 1):
                 # The depth with this index in the list has the place one less, from behind which is counted.
                 many = len([other for other in counted if at <= other <= place])
-                if 0 <= depths[at] < many and place not in deep:
+                if 0 <= depths[at] < many:
                     deep.append(place)
         return deep
 

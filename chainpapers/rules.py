@@ -20,9 +20,9 @@ def is_lasting(question, certificate):
 
 
 def bar_of_state(question, state):
-    """Return "withdrawn" or "unknown", if a certificate in this state is barred by it, or None."""
+    """Return "withdrawn" or "unknown", if it bars a certificate where the question's states are not "no", or None."""
     is_barred = state == "withdrawn" or (state == "unknown" and question[6][0] == "must")
-    return state if is_barred and question[6][0] != "no" else None
+    return state if is_barred else None
 
 
 def is_odd_must(certificate):

@@ -139,7 +139,7 @@ class TextReader:
         found = []
         if least == 1 or not self.is_at(end):
             found.append(self.take_thing(name))
-        while 0 < len(found) < most and self.is_at(between):
+        while len(found) < most and self.is_at(between):
             self.take(between)
             found.append(self.take_thing(name))
         self.take(end)

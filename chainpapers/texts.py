@@ -133,7 +133,7 @@ def read_store(text):
 
 def first_refused(sort, text):
     """Return the index at which a text of a sort is refused, or None."""
-    if not isinstance(sort, str) or sort not in SORTS:
+    if sort not in SORTS:
         raise InvalidSort("there are no texts of this sort")
     check_text(text)
     return place_refused(sort, text)

@@ -114,17 +114,19 @@ class Askings(Case):
                 route = Route(many)
                 route.most = most
                 self.assertEqual(least_most(*route.asked()[:2]), many)
+        store, question, _, _ = Route(9).asked()
+        self.assertIsNone(least_most(store, question))
 
     def test_bound(self):
         store = bound_store()
-        begin = time.perf_counter()
+        begin = time.process_time()
         question = bound_question(store, "no", True)
         self.assertEqual([uses_let(store, question), purposes_let(store, question)], [USES, PURPOSES])
         self.assertEqual(least_most(store, question), 6)
         self.assertEqual(policies_held(store, question), tuple(f"p{at}" for at in range(6)))
         question = bound_question(store)
         self.assertEqual([uses_let(store, question), least_most(store, question), policies_held(store, question)], [(), None, ()])
-        self.assertLess(time.perf_counter() - begin, 40)
+        self.assertLess(time.process_time() - begin, 40)
 
     def test_errors(self):
         store, question, _, _ = Route(2).asked()

@@ -129,11 +129,11 @@ class Built(Case):
         for is_path in (False, True):
             question = bound_question(store, "must", is_path)
             for function in (built, built_whole):
-                begin = time.perf_counter()
+                begin = time.process_time()
                 found = function(store, question)
                 self.assertEqual(found[0], "path" if is_path else "none")
                 self.assertIs(takes_built(store, question, found), True)
-                self.assertLess(time.perf_counter() - begin, 20)
+                self.assertLess(time.process_time() - begin, 40)
 
     def test_errors(self):
         store, question, _, _ = Route(2).asked()

@@ -88,13 +88,13 @@ class Diagnoses(Case):
         store = bound_store()
         for is_path in (True, False):
             question = bound_question(store, "must", is_path)
-            begin = time.perf_counter()
+            begin = time.process_time()
             chains = hanging_chains(store, question)
             self.assertEqual(len(chains), 6 * 3 * 4 ** 4)
             found = flawed_chains(store, question)
             self.assertEqual([chain for chain, _ in found], chains)
             self.assertEqual(least_flawed(store, question)[1] == (), is_path)
-            self.assertLess(time.perf_counter() - begin, 20)
+            self.assertLess(time.process_time() - begin, 40)
 
     def test_errors(self):
         store, question, _, _ = Route(2).asked()

@@ -109,3 +109,5 @@ class Steps(Case):
         wrong = odd_values(()) + [[("put", text)], (["put", text],), ("put", text), (("put", text, text),), (("put",),), (("in", text),),
                                   ((None, text),), (("put", None),), (("put", [text]),), (("put", ("anchor",)),), (("PUT", text),), (((), text),)]
         self.checks(applied, (EMPTY_STORE, (("put", text),)), [(NO_STORES, InvalidStore), (wrong, InvalidSteps)])
+        for deed in ("in", "take out", "Out", "", None, (), True, ["out"]):
+            self.raises(InvalidSteps, applied, (EMPTY_STORE[:2] + ((OPEN_ANCHOR,),)), ((deed, text),))

@@ -158,6 +158,16 @@ class Plain(Case):
         route.wanted, route.parts[3]["policylimits"] = ("w",), (0, -1)
         self.assertEqual(self.bars(route), ((3, POLICIES),))
 
+    def test_any_at_a_self_issued_target(self):
+        """It is barred there, if the number any is 0, while it is not at other self-issued certificates."""
+        for selfs, number, told in (((1,), 0, ((1, POLICY),)), ((1,), 1, ((1, POLICY),)), ((1,), 2, ()), ((0, 1), 0, ((1, POLICY),)),
+                                    ((0,), 0, ((1, POLICY),)), ((0, 1), 1, ()), ((0,), 1, ())):
+            route = Route(2, selfs)
+            route.numbers = (0, -1, number)
+            for place in range(2):
+                route.parts[place]["policies"] = ("any",) if place or 0 in selfs else ("any", "p")
+            self.assertEqual(self.bars(route), told, (selfs, number))
+
     def test_who_is_ahead(self):
         """The name and the key of what is just ahead are asked, and these alone."""
         store, question, anchor, path = Route(3).asked()

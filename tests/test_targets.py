@@ -103,13 +103,13 @@ class Targets(Case):
 
     def test_bound(self):
         store = bound_store()
-        begin = time.perf_counter()
+        begin = time.process_time()
         question = bound_question(store, "no", True)
         self.assertEqual(reached(store, question), tuple(range(30)))
         self.assertEqual(needed(store, question), (question[0],))
         self.assertIsNone(needed(store, bound_question(store)))
         built_each(store, bound_question(store), (0, 5, 10, 15, 20, 25))
-        self.assertLess(time.perf_counter() - begin, 40)
+        self.assertLess(time.process_time() - begin, 40)
 
     def test_errors(self):
         store, question, _, _ = Route(2).asked()

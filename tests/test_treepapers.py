@@ -104,6 +104,21 @@ class Trees(Case):
                     self.assertIs(takes_built(store, question, other), repr(other) in [repr(one) for one in told], other)
         self.assertGreater(paths, 100)
 
+    def test_trees_in_which_the_target_is_let(self):
+        store, question, anchor, path = Route(2).asked()
+        for item in (("let", ("p",)), ("barred", "policies"), ("barred", ("p",)), ("let",), ("again",), ("long",), KNOT, ("as", 0), ("as", 1)):
+            tree = (("knot", ((path[0], ("knot", ((path[1], item),))),)),)
+            self.assertIs(takes_tree(store, question, tree), False, item)
+
+    def test_words_of_what_is_built(self):
+        store, question = ring_store(2, 8)
+        tree = told_tree(store, question)
+        for word in ("none", "path", "some", "", "knot", "None", None, 0, ("none",)):
+            self.assertIs(takes_built(store, question, (word, tree)), word == "none", word)
+        store, question, anchor, path = Route(2).asked()
+        for word in ("path", "none", "let", "barred", "", None):
+            self.assertIs(takes_built(store, question, (word, (anchor, path), ("p",))), word == "path", word)
+
     def test_nothing_of_both_sorts(self):
         """Where there is a path no tree is taken: that of another question, say, or one that leaves out what is let."""
         for store, question in worlds(300):
